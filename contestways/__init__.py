@@ -1,0 +1,1 @@
+"""Strategies of contests, told exactly."""
