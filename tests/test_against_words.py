@@ -1,89 +1,14 @@
-"""Many contests, answered anew by the words of the document with Python's own fractions."""
+"""Many contests and many lists of calls, answered anew by the words of the document (tests/words.py)."""
 
 import itertools
+import math
 import unittest
 from fractions import Fraction
 
-from tests.helper import CONTEST, EQUILIBRIA, REPLIES, SUPPORT, SURVIVORS, VALUE, ask
-
-
-def told(number):
-    return [number.numerator, number.denominator]
-
-
-def shares(weights):
-    return [Fraction(weight, sum(weights)) for weight in weights]
-
-
-def win(wins, p, q):
-    n = len(p)
-    return sum(p[i] * wins[i * n + j] * q[j] for i in range(n) for j in range(n))
-
-
-def alone(n, i):
-    return [Fraction(int(k == i)) for k in range(n)]
-
-
-def determinant(rows):
-    total = 0
-    for order in itertools.permutations(range(len(rows))):
-        turned = sum(1 for a, b in itertools.combinations(order, 2) if a > b)
-        product = -1 if turned % 2 else 1
-        for row, column in enumerate(order):
-            product *= rows[row][column]
-        total += product
-    return total
-
-
-def level(n, wins, strategies):
-    """Shares of the n strategies by Cramer's rule; None if the set is singular."""
-    rows = [[wins[i * n + j] for j in strategies] + [-1] for i in strategies]
-    rows.append([1] * len(strategies) + [0])
-    whole = determinant(rows)
-    if whole == 0:
-        return None
-    found = [Fraction(0)] * n
-    for place, strategy in enumerate(strategies):
-        replaced = [row[:place] + [int(row is rows[-1])] + row[place + 1:] for row in rows]
-        found[strategy] = Fraction(determinant(replaced), whole)
-    return found
-
-
-def support(n, wins, strategies):
-    p = level(n, wins, strategies)
-    if p is None:
-        return [-5]
-    own = win(wins, p, p)
-    if any(p[i] <= 0 for i in strategies) or any(win(wins, alone(n, i), p) > own for i in range(n)):
-        return [0]
-    return [1] + [number for share in p for number in told(share)] + told(own)
-
-
-def sets_of(n):
-    return [[i for i in range(n) if number >> i & 1] for number in range(1, 1 << n)]
-
-
-def equilibria(n, wins):
-    firsts = [support(n, wins, strategies)[0] for strategies in sets_of(n)]
-    resting = [number for number, first in enumerate(firsts, 1) if first == 1]
-    singular = [number for number, first in enumerate(firsts, 1) if first == -5]
-    return [len(resting)] + resting + [len(singular)] + singular
-
-
-def survivors(n, wins):
-    there = list(range(n))
-    while True:
-        beaten = [j for j in there
-                  if any(all(wins[i * n + k] > wins[j * n + k] for k in there) for i in there)]
-        if not beaten:
-            return [len(there)] + there
-        there = [j for j in there if j not in beaten]
-
-
-def replies(n, wins, q):
-    won = [win(wins, alone(n, i), shares(q)) for i in range(n)]
-    best = [i for i in range(n) if won[i] == max(won)]
-    return [0] + told(max(won)) + [len(best)] + best
+from tests import words
+from tests.helper import (
+    BEARS, CONTEST, EQUILIBRIA, GREATEST, GROW, LEAST, REPLIES, SCALE, SHIFT, STABLE, STABLES, SUB, SUPPORT, SURVIVORS,
+    TOLD, VALUE, ask)
 
 
 class Sequence:
@@ -96,35 +21,128 @@ class Sequence:
         self.state = (self.state * 6364136223846793005 + 1442695040888963407) % (1 << 64)
         return least + (self.state >> 33) % (most - least + 1)
 
+    def choice(self, choices):
+        return choices[self.number(0, len(choices) - 1)]
+
+    def numbers(self, size, least, most):
+        return [self.number(least, most) for place in range(size)]
+
     def weights(self, n, most):
-        found = [self.number(0, most) for place in range(n)]
+        found = [self.choice((0, 1, self.number(0, most))) for place in range(n)]
         return found if sum(found) else [1] * n
+
+    def resting(self, n, most):
+        """A contest and weights of a mixture that is at rest there, often beside best replies outside of it."""
+        while True:
+            p = self.weights(n, 4)
+            base = [i for i in range(n) if p[i] > 0][0]
+            p[base] = 1
+            own = self.number(-most, most)
+            rows = [self.numbers(n, -most, most) for strategy in range(n)]
+            for i, row in enumerate(rows):
+                aim = own if p[i] > 0 or self.number(0, 3) else own - 1
+                row[base] = aim * sum(p) - sum(row[j] * p[j] for j in range(n) if j != base)
+            wins = [win for row in rows for win in row]
+            if max(wins) <= 1000 and min(wins) >= -1000:
+                return (n, wins, p)
+
+    def wrong_row(self, n):
+        size = self.choice((0, n - 1, n, n + 1, n * n, 40))
+        return [self.choice((-1, 0, 1, n, 1000, 1001, LEAST, GREATEST)) for place in range(max(size, 0))]
+
+    def call(self, n):
+        """Any call for a contest of n strategies, now and then one that is refused."""
+        kind = self.number(0, 13)
+        wrong = self.number(0, 7) == 0
+        most = self.choice((1, 3, 1000))
+        if kind in (TOLD, SURVIVORS, EQUILIBRIA, STABLES):
+            return (kind,)
+        if kind == CONTEST:
+            size = self.number(1, 4)
+            wins = self.wrong_row(n) if wrong else self.numbers(size * size, self.choice((0, -most)), most)
+            return (CONTEST, size, wins)
+        if kind in (SUPPORT, SUB):
+            return (kind, self.wrong_row(n) if wrong else self.choice(words.sets_of(n)[::-1]))
+        if kind == SCALE:
+            return (SCALE, self.choice((0, 101, LEAST, GREATEST)) if wrong else self.choice((1, 2, 3, 10, 100)))
+        if kind == SHIFT:
+            return (SHIFT, self.wrong_row(n) if wrong else self.numbers(n, -most, most))
+        if kind == GROW:
+            return (GROW, self.number(-1, 6) if wrong else self.number(0, 5), self.weights(n, most))
+        rows = [self.wrong_row(n) if wrong else self.weights(n, most) for row in range(2)]
+        return (kind,) + tuple(rows if kind in (VALUE, BEARS) else rows[:1])
 
 
 class AgainstTheWords(unittest.TestCase):
-    def assert_answers(self, n, wins, p, q):
-        calls = [(CONTEST, n, wins), (VALUE, p, q), (REPLIES, q), (SURVIVORS,), (EQUILIBRIA,)]
-        calls.extend((SUPPORT, strategies) for strategies in sets_of(n))
-        answered = [[0], [0] + told(win(wins, shares(p), shares(q))), replies(n, wins, q), survivors(n, wins),
-                    equilibria(n, wins)]
-        answered.extend(support(n, wins, strategies) for strategies in sets_of(n))
-        self.assertEqual(ask(*calls), answered, (n, wins, p, q))
+    def assert_answers(self, calls):
+        model = words.Words()
+        answered = [model.answer(call) for call in calls]
+        self.assertEqual(ask(*calls), answered, calls)
+        return answered
+
+    def assert_contest(self, n, wins, p, q):
+        calls = [(CONTEST, n, wins), (VALUE, p, q), (REPLIES, q), (SURVIVORS,), (EQUILIBRIA,), (STABLES,), (STABLE, p),
+                 (STABLE, q), (BEARS, p, q), (BEARS, q, p), (GROW, 2, p)]
+        calls.extend((SUPPORT, strategies) for strategies in words.sets_of(n))
+        self.assert_answers(calls)
 
     def test_all_small_contests_of_two(self):
         for wins in itertools.product(range(-2, 3), repeat=4):
-            self.assert_answers(2, list(wins), [1, 2], [3, 1])
+            self.assert_contest(2, list(wins), [1, 2], [3, 1])
 
     def test_all_smallest_contests_of_three(self):
         for wins in itertools.product(range(2), repeat=9):
-            self.assert_answers(3, list(wins), [1, 0, 2], [1, 1, 1])
+            self.assert_contest(3, list(wins), [1, 0, 2], [1, 1, 1])
 
     def test_scattered_contests(self):
         sequence = Sequence(2026)
         for most in (1, 2, 5, 1000):
             for n in (1, 2, 3, 4):
-                for turn in range(30):
-                    wins = [sequence.number(-most, most) for place in range(n * n)]
-                    self.assert_answers(n, wins, sequence.weights(n, most), sequence.weights(n, most))
+                for turn in range(25):
+                    wins = sequence.numbers(n * n, -most, most)
+                    self.assert_contest(n, wins, sequence.weights(n, most), sequence.weights(n, most))
+
+    def test_mixtures_at_rest(self):
+        sequence = Sequence(7)
+        seen = {}
+        for turn in range(1200):
+            n, wins, p = sequence.resting(sequence.number(2, 4), sequence.choice((1, 2, 5, 20)))
+            answered = self.assert_answers(
+                [(CONTEST, n, wins), (STABLE, p), (STABLES,), (BEARS, p, sequence.weights(n, 5)), (REPLIES, p)])
+            inside = n - p.count(0)
+            outside = answered[4][3] - inside
+            seen[(inside, outside, answered[1][0])] = True
+        # With each number of strategies in and beside the mixture there were stable ones and others.
+        for inside, outside in ((1, 1), (1, 2), (1, 3), (2, 0), (2, 1), (2, 2), (3, 0), (3, 1), (4, 0)):
+            self.assertIn((inside, outside, 0), seen)
+            self.assertIn((inside, outside, 1), seen)
+
+    def test_stable_of_the_mixtures_that_support_tells(self):
+        sequence = Sequence(99)
+        for turn in range(150):
+            n = sequence.number(2, 4)
+            wins = sequence.numbers(n * n, -3, 3)
+            calls = [(CONTEST, n, wins)]
+            for strategies in words.sets_of(n):
+                answered = words.support(n, wins, strategies)
+                if answered[0] == 1:
+                    p = [Fraction(*answered[place:place + 2]) for place in range(1, 2 * n, 2)]
+                    whole = math.lcm(*[share.denominator for share in p])
+                    if whole <= 1000:
+                        calls.append((STABLE, [int(share * whole) for share in p]))
+            self.assert_answers(calls)
+
+    def test_any_calls_in_any_order(self):
+        for seed in range(12):
+            sequence = Sequence(seed)
+            model = words.Words()
+            calls = []
+            answered = []
+            for turn in range(400):
+                calls.append(sequence.call(model.n))
+                answered.append(model.answer(calls[-1]))
+            self.assertEqual(ask(*calls), answered)
+            self.assertEqual({call[0] for call in calls}, set(range(14)))
 
 
 if __name__ == "__main__":

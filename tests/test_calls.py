@@ -1,10 +1,10 @@
-"""The seven calls at ordinary inputs, at 1 and at 4 strategies, and the document's examples."""
+"""The calls contest to equilibria at ordinary inputs, at 1 and at 4 strategies, and the document's examples."""
 
 import unittest
 
 from contestways.contest import answers
 from tests.helper import (
-    CONTEST, EQUILIBRIA, REPLIES, SUPPORT, SURVIVORS, TOLD, VALUE, ask, ask_of, one_of)
+    BEARS, CONTEST, EQUILIBRIA, GROW, REPLIES, STABLE, STABLES, SUPPORT, SURVIVORS, TOLD, VALUE, ask, ask_of, one_of)
 
 HAWK_DOVE = (2, [-1, 4, 0, 2])
 MEETING = (2, [2, 0, 0, 1])
@@ -18,23 +18,34 @@ AGAINST_OWN = (4, [0, 1, 1, 1, 1, 0, 1, 1, 1, 1, 0, 1, 1, 1, 1, 0])
 
 class Examples(unittest.TestCase):
     def test_first_contest(self):
-        calls = ((EQUILIBRIA,), (SUPPORT, [0, 1]), (REPLIES, [1, 0]), (VALUE, [2, 1], [1, 0]))
+        calls = ((EQUILIBRIA,), (SUPPORT, [0, 1]), (STABLE, [2, 1]), (STABLE, [1, 1]), (BEARS, [2, 1], [1, 0]),
+                 (REPLIES, [1, 0]), (VALUE, [2, 1], [1, 0]))
         self.assertEqual(ask_of(HAWK_DOVE, *calls), [
             [1, 3, 0],
             [1, 2, 3, 1, 3, 2, 3],
+            [1],
+            [0],
+            [1, 1],
             [0, 0, 1, 1, 1],
             [0, -2, 3],
         ])
 
     def test_second_contest(self):
-        self.assertEqual(one_of(MEETING, EQUILIBRIA), [3, 1, 2, 3, 0])
+        self.assertEqual(ask_of(MEETING, (EQUILIBRIA,), (STABLES,), (BEARS, [1, 0], [0, 1]), (GROW, 1, [1, 1])),
+                         [[3, 1, 2, 3, 0], [2, 1, 2], [2, 3], [0, 2, 3, 1, 3]])
 
     def test_both_in_one_list_number_by_number(self):
-        line = [0, 2, 4, -1, 4, 0, 2, 6, 5, 2, 0, 1, 3, 2, 1, 0, 2, 2, 2, 1, 2, 1, 0,
-                0, 2, 4, 2, 0, 0, 1, 6]
+        line = [0, 2, 4, -1, 4, 0, 2, 6, 5, 2, 0, 1, 7, 2, 2, 1, 7, 2, 1, 1, 9, 2, 2, 1, 2, 1, 0,
+                3, 2, 1, 0, 2, 2, 2, 1, 2, 1, 0,
+                0, 2, 4, 2, 0, 0, 1, 6, 8, 9, 2, 1, 0, 2, 0, 1, 10, 1, 2, 1, 1]
         self.assertEqual(answers(line), [
-            1, 0, 3, 1, 3, 0, 7, 1, 2, 3, 1, 3, 2, 3, 5, 0, 0, 1, 1, 1, 3, 0, -2, 3,
-            1, 0, 5, 3, 1, 2, 3, 0])
+            1, 0, 3, 1, 3, 0, 7, 1, 2, 3, 1, 3, 2, 3, 1, 1, 1, 0, 2, 1, 1,
+            5, 0, 0, 1, 1, 1, 3, 0, -2, 3,
+            1, 0, 5, 3, 1, 2, 3, 0, 3, 2, 1, 2, 2, 2, 3, 5, 0, 2, 3, 1, 3])
+
+    def test_the_calls_that_change_number_by_number(self):
+        line = [0, 2, 4, -1, 4, 0, 2, 11, 2, 10, -1, 1, 12, 3, 1, 13, 1, 1, 1]
+        self.assertEqual(answers(line), [1, 0, 1, 0, 5, 2, 9, 3, 10, 1, 1, 0, 5, 2, 27, 9, 30, 3, 1, 1, 2, 1, 3])
 
 
 class TheFirstContest(unittest.TestCase):

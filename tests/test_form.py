@@ -22,6 +22,10 @@ OWN_NAMES = (
 UNSAID_WORDS = (
     "type typing typing_extensions enum Enum IntEnum StrEnum Flag IntFlag Generic Protocol ABC ABCMeta namedtuple "
     "NamedTuple TypedDict TYPE_CHECKING abstractmethod").split()
+METHODS = (
+    "append clear copy count endswith extend find get index insert isalnum isalpha isdigit islower isspace isupper "
+    "items join keys ljust lower lstrip partition pop remove replace reverse rfind rjust rpartition rsplit rstrip "
+    "setdefault split splitlines startswith strip update upper values zfill bit_length").split()
 
 
 def sources():
@@ -43,7 +47,7 @@ class Form(unittest.TestCase):
     def test_sizes_signs_and_words(self):
         for name, text in sources():
             lines = text.split("\n")
-            self.assertLessEqual(len(lines), 401, name)
+            self.assertLessEqual(len(lines), 400, name)
             for line in lines:
                 self.assertLessEqual(len(line), 120, name)
                 self.assertRegex(line, r"^[ -~]*$", name)
@@ -82,6 +86,30 @@ class Form(unittest.TestCase):
             if isinstance(node, ast.arg):
                 self.assertFalse(hasattr(builtins, node.arg), node.arg)
                 self.assertIsNone(node.annotation, node.arg)
+
+    def test_methods_and_keywords(self):
+        own = [node.name for name, node in nodes() if isinstance(node, ast.FunctionDef)]
+        for name, node in nodes():
+            if isinstance(node, ast.Call):
+                self.assertEqual(node.keywords, [], name)
+                if isinstance(node.func, ast.Attribute):
+                    self.assertIn(node.func.attr, METHODS + own, name)
+
+    def test_is_stands_beside_none_true_and_false(self):
+        for name, node in nodes():
+            if isinstance(node, ast.Compare) and any(isinstance(sign, (ast.Is, ast.IsNot)) for sign in node.ops):
+                self.assertEqual(len(node.ops), 1, name)
+                self.assertIsInstance(node.comparators[0], ast.Constant, name)
+
+    def test_the_top_holds_defs_and_plain_values_bound_once(self):
+        for name, text in sources():
+            bound = []
+            for node in ast.parse(text).body[1:]:
+                self.assertIsInstance(node, (ast.FunctionDef, ast.ClassDef, ast.Assign), name)
+                bound.append(node.targets[0].id if isinstance(node, ast.Assign) else node.name)
+                if isinstance(node, ast.Assign):
+                    self.assertIsInstance(ast.literal_eval(node.value), int, name)
+            self.assertEqual(len(bound), len(set(bound)), name)
 
 
 if __name__ == "__main__":

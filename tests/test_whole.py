@@ -6,11 +6,14 @@ import unittest
 
 from contestways.contest import answers
 from tests.helper import (
-    CONTEST, EQUILIBRIA, REPLIES, SUPPORT, SURVIVORS, TOLD, VALUE, Untouchable, ask, laid_out)
+    BEARS, CONTEST, EQUILIBRIA, GROW, REPLIES, SCALE, SHIFT, STABLE, STABLES, SUB, SUPPORT, SURVIVORS, TOLD, VALUE,
+    Untouchable, ask, laid_out)
 
 MIXED = (
     (TOLD,), (CONTEST, 3, [0, -1, 1, 1, 0, -1, -1, 1, 0]), (EQUILIBRIA,), (SUPPORT, [0, 1, 2]), (SUPPORT, [0, 1]),
     (CONTEST, 3, [0] * 8), (VALUE, [1, 2, 3], [3, 2, 1]), (REPLIES, [1, 2, 3]), (SURVIVORS,), (SUPPORT, [2, 1]),
+    (STABLE, [1, 1, 1]), (STABLES,), (SHIFT, [3, 2, 1]), (GROW, 3, [1, 2, 3]), (BEARS, [1, 0, 0], [0, 1, 1]),
+    (SCALE, 7), (TOLD,), (SCALE, 0), (SUB, [0, 2]), (STABLES,),
 )
 
 
@@ -58,8 +61,10 @@ class LongLists(unittest.TestCase):
 
     def test_400_mixed_calls(self):
         first = ask(*MIXED)
-        again = [[3, 0, -1, 1, 1, 0, -1, -1, 1, 0]] + first[1:]
-        self.assertEqual(ask(*(MIXED * 40)), first + again * 39)
+        again = [[2, 21, 14, 14, 7]] + first[1:]
+        self.assertEqual(first[16], [3, 21, 7, 14, 28, 14, 0, 14, 21, 7])
+        self.assertEqual({call[0] for call in MIXED}, set(range(14)))
+        self.assertEqual(ask(*(MIXED * 20)), first + again * 19)
 
     def test_400_contests(self):
         calls = []
@@ -80,6 +85,15 @@ class LongLists(unittest.TestCase):
         wins = [17, -903, 44, 1000, 5, 5, -1000, 731, 999, -2, 61, 0, -77, 400, 8, 13]
         parts = ask((CONTEST, 4, wins), *[(EQUILIBRIA,)] * 399)
         self.assertEqual(parts[1:], [parts[1]] * 399)
+
+    def test_400_stables_of_four_strategies(self):
+        wins = [1 if i == j else 0 for i in range(4) for j in range(4)]
+        self.assertEqual(ask((CONTEST, 4, wins), *[(STABLES,)] * 399), [[0]] + [[4, 1, 2, 4, 8]] * 399)
+
+    def test_400_times_grown_far(self):
+        wins = [999, 1, 998, 7, 13, 997, 11, 996, 994, 3, 995, 17, 19, 993, 5, 992]
+        parts = ask((CONTEST, 4, wins), (SCALE, 100), (SCALE, 9), *[(GROW, 5, [997, 991, 983, 977])] * 397)
+        self.assertEqual(parts[3:], [parts[3]] * 397)
 
 
 if __name__ == "__main__":
